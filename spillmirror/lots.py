@@ -51,13 +51,18 @@ def best(days, many):
     return sum(rises_of(days)[:many])
 
 
+def sums_of(steps):
+    """Tell the list of 0, the first step, the first two together, .. and all together."""
+    told = [0]
+    for step in steps:
+        told.append(told[-1] + step)
+    return told
+
+
 def bests(days):
     """Tell the list of the best of 0 stretches, of 1, .. as long as it rises."""
     need_days(days)
-    told = [0]
-    for rise in rises_of(days):
-        told.append(told[-1] + rise)
-    return told
+    return sums_of(rises_of(days))
 
 
 class BestLots:

@@ -12,6 +12,12 @@ INTERFACE = {
     "runs": {"is_days": "thing", "run": "days cap start", "totals": "days cap start"},
     "lots": {"is_lot": "days thing", "worth": "days lot", "best": "days many", "lots_of_best": "days many",
              "bests": "days", "best_lot": "days many", "nth_lot": "days many number", "next_stretch": "days lot"},
+    "mirror": {"spilled": "days cap", "spill_lot": "days cap", "spills": "days", "bests_of": "told", "spills_of": "told",
+               "days_of": "told", "cap_for": "days most", "shows": "days cap many", "caps_that_show": "days many"},
+    "begins": {"most_spilled": "days cap start", "most_lacking": "days cap start"},
+    "fives": {"is_five": "cap thing", "five": "days cap", "led": "cap five start", "joined": "cap five other",
+              "few_days": "cap five", "ends_from": "days cap"},
+    "vessels": {"vessels": "days caps"},
 }
 
 ERRORS = ["TankError", "NoDays", "NoCap", "NoStart", "NoMany", "NoLot", "NotBest", "NoNumber", "NoMirror", "NoMost",
