@@ -7,18 +7,25 @@ from spillmirror.errors import NoFive
 from spillmirror.runs import is_whole, need_cap, need_start, totals
 
 
+def gain_of(five):
+    """Tell by how much the end is above a start from low to high."""
+    return five[0] + five[2] - five[1]
+
+
+def is_some_five(thing):
+    """Tell whether thing is a five that some days have, of some cap."""
+    if not isinstance(thing, tuple) or len(thing) != 5 or not all(is_whole(part) for part in thing):
+        return False
+    _, spilled, lacking, low, high = thing
+    if spilled < 0 or lacking < 0 or not 0 <= low <= high or low + gain_of(thing) < 0:
+        return False
+    return low == high or spilled == lacking == 0
+
+
 def is_five(cap, thing):
     """Tell whether thing is a five that some days have, of that cap."""
     need_cap(cap)
-    if not isinstance(thing, tuple) or len(thing) != 5 or not all(is_whole(part) for part in thing):
-        return False
-    total, spilled, lacking, low, high = thing
-    if spilled < 0 or lacking < 0 or not 0 <= low <= high <= cap:
-        return False
-    gained = total + lacking - spilled
-    if low + gained < 0 or high + gained > cap:
-        return False
-    return low == high or spilled == lacking == 0
+    return is_some_five(thing) and max(thing[4], thing[4] + gain_of(thing)) <= cap
 
 
 def need_five(cap, five):
@@ -29,11 +36,10 @@ def need_five(cap, five):
 
 def passed(five, start):
     """Tell (end, spilled, lacking) behind the days of a five, from that start."""
-    total, spilled, lacking, low, high = five
+    _, spilled, lacking, low, high = five
     over = max(start - high, 0)
     short = max(low - start, 0)
-    kept = start - over + short
-    return kept + total + lacking - spilled, spilled + over, lacking + short
+    return start - over + short + gain_of(five), spilled + over, lacking + short
 
 
 def five_between(total, cap, empty, full):
@@ -83,8 +89,7 @@ def few_days(cap, five):
     total, spilled, lacking, low, high = five
     if low < high:
         return [-low, low + cap - high, total + high - cap]
-    end = low + total + lacking - spilled
-    return [-low, cap, spilled, -cap - lacking, end]
+    return [-low, cap, spilled, -cap - lacking, low + gain_of(five)]
 
 
 def ends_from(days, cap):

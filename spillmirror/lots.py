@@ -2,28 +2,31 @@
 
 from spillmirror.errors import NoLot, NoMany, NoNumber, NotBest
 from spillmirror.moves import rises_of
-from spillmirror.runs import is_amount, is_whole, need_days
+from spillmirror.runs import is_amount, is_pair, need_days
 
 
-def is_stretch(many, thing):
-    """Tell whether thing is a stretch (first, last) of so many days."""
-    if not isinstance(thing, tuple) or len(thing) != 2:
-        return False
-    first, last = thing
-    return is_whole(first) and is_whole(last) and 0 <= first <= last < many
+def is_stretch(thing):
+    """Tell whether thing is a stretch (first, last) of some days."""
+    return is_pair(thing) and 0 <= thing[0] <= thing[1]
 
 
-def is_lot(days, thing):
-    """Tell whether thing is a lot of days: a rising list of stretches, each with a day between."""
-    need_days(days)
+def is_some_lot(thing):
+    """Tell whether thing is a lot of some days: a rising list of stretches, each with a day between."""
     if not isinstance(thing, list):
         return False
     earliest = 0
     for part in thing:
-        if not is_stretch(len(days), part) or part[0] < earliest:
+        if not is_stretch(part) or part[0] < earliest:
             return False
         earliest = part[1] + 2
     return True
+
+
+def is_lot(days, thing):
+    """Tell whether thing is a lot of these days."""
+    need_days(days)
+    # Lots rise: none of their days is behind the last one.
+    return is_some_lot(thing) and (not thing or thing[-1][1] < len(days))
 
 
 def need_many(many):

@@ -13,6 +13,11 @@ def is_amount(thing):
     return is_whole(thing) and thing >= 0
 
 
+def is_pair(thing):
+    """Tell whether thing is a tuple of two whole numbers."""
+    return isinstance(thing, tuple) and len(thing) == 2 and is_whole(thing[0]) and is_whole(thing[1])
+
+
 def is_days(thing):
     """Tell whether thing is a row of days: a list of whole numbers."""
     return isinstance(thing, list) and all(is_whole(day) for day in thing)
@@ -36,6 +41,13 @@ def need_start(start, cap):
         raise NoStart()
 
 
+def need_tank(days, cap, start):
+    """Refuse days, a cap or a start that are none, in this order."""
+    need_days(days)
+    need_cap(cap)
+    need_start(start, cap)
+
+
 def day_done(content, day, cap):
     """Tell (content, spilled, lacking) of a tank of that cap behind one day."""
     level = content + day
@@ -44,9 +56,7 @@ def day_done(content, day, cap):
 
 def run(days, cap, start):
     """Tell (contents, spilled, lacking) day by day; contents begins with the start."""
-    need_days(days)
-    need_cap(cap)
-    need_start(start, cap)
+    need_tank(days, cap, start)
     contents = [start]
     spilled = []
     lacking = []

@@ -4,7 +4,7 @@ import copy
 import itertools
 
 from listing import OTHERS, steps_of
-from spillmirror.errors import NoCap, NoDays, NoFive, NoMany, NoStart
+from spillmirror.errors import NoBounds, NoCap, NoCore, NoDays, NoFive, NoLooks, NoMany, NoStart
 
 BIG = 10 ** 15 - 1
 
@@ -35,6 +35,42 @@ NO_FIVES = [
 """Things that are no fives of the cap 5."""
 
 FIVE = ("five", (1, 0, 0, 1, 4), NoFive, NO_FIVES)
+
+NO_PAIRS = [(), (1,), (1, 2, 3), ((1, 2),), [1, 2], [], 1, "12", "1..2", "1:2", b"12", None, {1: 2}, {1, 2}, range(2)]
+NO_PAIRS += [pair for thing in OTHERS for pair in ((thing, 1), (1, thing), (thing, thing))]
+"""Things that are no tuples of two whole numbers."""
+
+
+def lists_with(bads, *goods):
+    """Lists that hold a bad thing alone, and ahead of, behind, and between good ones."""
+    return [row for bad in bads for row in ([bad], [bad, *goods], [*goods, bad], [*goods, bad, *goods])]
+
+
+NO_BOUNDS = NO_LISTS + lists_with(NO_PAIRS + [(1, 0), (0, -1), (BIG, -BIG)], (0, 2), (-1, -1))
+BOUNDS = ("bounds", [(0, 2), (-1, 1), (-5, -5)], NoBounds, NO_BOUNDS)
+
+NO_LOOKS = NO_LISTS + lists_with(NO_PAIRS + [(-1, 0), (0, -1), (-1, -1), (-BIG, 1), (1, -BIG)], (2, 1), (0, 3))
+"""Things that are no looks, into whatever tank."""
+
+LOOKS = ("looks", [(2, 1), (0, 0)], NoLooks, NO_LOOKS + lists_with([(4, 0), (4, 9), (BIG, 0)], (2, 1), (0, 3)))
+"""Looks into a tank over those three days."""
+
+NO_CORES = [
+    None, True, 0, "", " | ", "+5 | 1", b"", object(), {}, {1, 2}, range(2), [], (), ([],), ([], [], []), [[], []], [[5], []],
+    # other kinds of rests and sizes
+    ((), []), ([], ()), ((5,), []), ([5], (1,)), (5, []), ([5], 1), (None, []), ([], None), ("", ""), ({}, {}), ([5], {}),
+    # rests: a move of 0, moves that do not go by turns, one within that is no greater than both beside it
+    ([0], []), ([5, 0], []), ([0, -5], []), ([5, 0, -3], []), ([1, 2], []), ([-1, -2], []), ([3, -5, -2], []),
+    ([5, -3, 5], []), ([5, -5, 5], []), ([-5, 5, -6], []), ([1, -2, 3, -2, 3], []), ([3, -3, 3, -3], []),
+    ([4, -4, 4], [1]), ([1, -5, 5, -5, 1], []),
+    # sizes: below 1, not falling, greater than the rest's greatest move
+    ([5], [0]), ([5], [-1]), ([5], [2, 0]), ([5], [1, 2]), ([5], [3, 2, 3]), ([5], [6]), ([-5], [6, 1]), ([-5], [BIG]),
+    ([], [1]), ([], [0]), ([2, -4, 3], [5]), ([2, -4, 3], [4, 4, 1, 2]),
+]
+NO_CORES += [one for thing in OTHERS for one in (([thing], []), ([5, thing], []), ([5], [thing]), ([5], [3, thing]))]
+NO_CORES += [one for thing in OTHERS for one in ((thing, [1]), ([5], thing))
+             if not isinstance(thing, list)]
+CORE = ("core", ([2, -7, 4], [6, 6, 1]), NoCore, NO_CORES)
 
 
 def refused(case, error, function, *arguments, **named):

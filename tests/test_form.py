@@ -18,6 +18,13 @@ INTERFACE = {
     "fives": {"is_five": "cap thing", "five": "days cap", "led": "cap five start", "joined": "cap five other",
               "few_days": "cap five", "ends_from": "days cap"},
     "vessels": {"vessels": "days caps"},
+    "seen": {"can_be": "bounds cap looks", "days_for": "bounds cap looks moment content",
+             "first_wrong": "bounds cap looks"},
+    "rounds": {"stays": "days cap", "rounds": "days cap start", "round_of": "days cap start many"},
+    "everycap": {"core": "days", "by_core": "core cap start", "apart": "days other"},
+    "texts": {"show_days": "days", "show_lot": "lot", "show_five": "five", "show_core": "core", "show_bounds": "bounds",
+              "show_looks": "looks", "read_days": "text", "read_lot": "text", "read_five": "text", "read_core": "text",
+              "read_bounds": "text", "read_looks": "text"},
 }
 
 ERRORS = ["TankError", "NoDays", "NoCap", "NoStart", "NoMany", "NoLot", "NotBest", "NoNumber", "NoMirror", "NoMost",
